@@ -1,0 +1,45 @@
+"""The examples e01 to e07 of the document."""
+
+import unittest
+
+from walkingcut.claims import can_be, is_bar
+from walkingcut.cuts import least_price, price
+from walkingcut.histories import end
+from walkingcut.logs import Log, mirrored
+from walkingcut.sorting import can_come, sorted_back
+from walkingcut.telling import places_for, word
+from walkingcut.utmosts import utmost
+
+
+class ExamplesTest(unittest.TestCase):
+    def setUp(self):
+        self.w = Log(3, ((0, 1, 0), (1, 2, 1)))
+
+    def test_e01(self):
+        self.assertEqual(mirrored(self.w).spills, ((1, 2, 0), (0, 1, 1)))
+
+    def test_e02(self):
+        self.assertEqual(end(self.w, ((1, 0), (2, 0))), (1, 2, 0))
+
+    def test_e03(self):
+        self.assertEqual(sorted_back(self.w, (2, 1, 0)), (0, 2, 1))
+        self.assertIs(can_come(self.w, (1, 2, 0)), True)
+
+    def test_e04(self):
+        self.assertEqual(utmost(self.w), (1, 2, 0))
+
+    def test_e05(self):
+        self.assertEqual(least_price(self.w, 2, 1), 1)
+        self.assertEqual(price(self.w, (2, 2, 1, 1)), 1)
+
+    def test_e06(self):
+        self.assertIs(can_be(self.w, ((0, 1), (1, 2))), False)
+        self.assertIs(is_bar(self.w, ((0, 1), (1, 2)), (2, 2, 1, 1)), True)
+
+    def test_e07(self):
+        self.assertEqual(places_for(self.w, ((2, 1),), 0), (0, 2))
+        self.assertEqual(word(self.w, ((1, 0),), 2, 0), "never")
+
+
+if __name__ == "__main__":
+    unittest.main()

@@ -1,0 +1,1 @@
+"""Walkingcut: which claims about a rack of spilled vials can be true."""
