@@ -1,6 +1,6 @@
 """What the tests rest on: racks gone through whole by the document's words, and things of all kinds.
 
-Nothing here asks the program for an answer: only Log and its attributes are used.
+Nothing here asks the program for an answer: only Log, its attributes and behind are used.
 """
 
 import itertools
@@ -9,7 +9,7 @@ import random
 import unittest
 
 from walkingcut import errors
-from walkingcut.logs import Log
+from walkingcut.logs import Log, behind
 
 W = Log(3, ((0, 1, 0), (1, 2, 1)))
 
@@ -61,6 +61,48 @@ def coming(log):
             for row in found for mixed in itertools.permutations(row[first:last + 1])
         }
     return found
+
+
+def log_to(row):
+    """A log of neighbours spilled, whose utmost arrangement is the told one."""
+    cells, spills = list(row), []
+    for _ in row:
+        for place in range(len(row) - 1):
+            if cells[place] > cells[place + 1]:
+                cells[place], cells[place + 1] = cells[place + 1], cells[place]
+                spills.append((place, place + 1, 0))
+    found = Log(len(row), ())
+    for at in range(len(spills), 0, -100):
+        # A constructed log has no more than a hundred.
+        found = behind(found, Log(len(row), tuple(spills[max(0, at - 100):at][::-1])))
+    return found
+
+
+def each_top(many):
+    """A log for each arrangement of a rack that an utmost one can be."""
+    return [log_to(row) for row in perms(many)]
+
+
+def utmost_of(log):
+    """The arrangement behind each stretch put in descending order."""
+    cells = list(range(log.many))
+    for first, last, _ in log.spills:
+        cells[first:last + 1] = sorted(cells[first:last + 1])[::-1]
+    return tuple(cells)
+
+
+def claims_of(row):
+    """The claims about all vials of an arrangement."""
+    return tuple(sorted((vial, place) for place, vial in enumerate(row)))
+
+
+def all_parts(claims):
+    return [part for count in range(len(claims) + 1) for part in itertools.combinations(claims, count)]
+
+
+def true_claims(log):
+    """The set of all claims that can be true."""
+    return {part for row in coming(log) for part in all_parts(claims_of(row))}
 
 
 def all_histories(log):
@@ -115,6 +157,15 @@ def in_order(many, claims):
         cells[place] = vial
     others = [vial for vial in range(many) if vial not in cells]
     return tuple(others.pop(0) if vial is None else vial for vial in cells)
+
+
+def number_touched(log, history):
+    """How many spills of a right history do not put back what stood there."""
+    cells, count = list(range(log.many)), 0
+    for (first, last, _), row in zip(log.spills, history):
+        count += list(row) != cells[first:last + 1]
+        cells[first:last + 1] = row
+    return count
 
 
 def is_a_walk(log, thing):

@@ -1,9 +1,12 @@
-"""The examples e01 to e07 of the document."""
+"""The examples e01 to e11 of the document."""
 
 import unittest
 
 from walkingcut.claims import can_be, is_bar
+from walkingcut.colours import can_be_seen
+from walkingcut.comparing import needless, stretch
 from walkingcut.cuts import least_price, price
+from walkingcut.depths import depth, depth_for_all, needed
 from walkingcut.histories import end
 from walkingcut.logs import Log, mirrored
 from walkingcut.sorting import can_come, sorted_back
@@ -39,6 +42,19 @@ class ExamplesTest(unittest.TestCase):
     def test_e07(self):
         self.assertEqual(places_for(self.w, ((2, 1),), 0), (0, 2))
         self.assertEqual(word(self.w, ((1, 0),), 2, 0), "never")
+
+    def test_e08(self):
+        self.assertEqual(needed(self.w), [(2, 1)])
+        self.assertEqual((depth(self.w), depth_for_all(self.w)), (2, 1))
+
+    def test_e09(self):
+        self.assertEqual(needless(Log(3, ((0, 1, 0), (0, 2, 1), (1, 2, 0)))), (0, 2))
+
+    def test_e10(self):
+        self.assertEqual(stretch(self.w, 2), (1, 2))
+
+    def test_e11(self):
+        self.assertIs(can_be_seen(self.w, (0, 0, 1), (1, 0, 0)), False)
 
 
 if __name__ == "__main__":

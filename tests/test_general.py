@@ -6,10 +6,17 @@ from tests.support import Case, W, big_log, deep
 from walkingcut import errors
 from walkingcut.again import prices_again, prices_behind, times_still
 from walkingcut.claims import bar, can_be, history_of, is_bar, is_claims, least_arrangement, passed
+from walkingcut.colours import all_seen, bar_seen, can_be_seen, history_seen, is_bar_seen, least_seen, many_seen
+from walkingcut.comparing import alike, apart, bare, needless, never_more, parting, same_alone, stretch
 from walkingcut.cuts import is_walk, least_price, price, prices, walk
+from walkingcut.depths import (
+    below_by, deep_arrangement, deep_claims, depth, depth_for_all, is_deep, loads, needed,
+)
 from walkingcut.histories import end, is_history, led, many_histories, rows, touched, trail
 from walkingcut.logs import Log, backward, behind, by_hands, hands, inverse, is_arrangement, mirrored, without
+from walkingcut.making import fewest_spills, inversions, steps_for
 from walkingcut.ordering import left_pairs, left_word
+from walkingcut.shapes import shape_in, stands_at
 from walkingcut.sorting import can_come, history_for, sorted_back
 from walkingcut.telling import least_barred, most_true, places_for, sure, true_lot, vials_for, word
 from walkingcut.utmosts import is_below, passing, utmost
@@ -18,6 +25,10 @@ ROW = (1, 2, 0)
 HISTORY = ((1, 0), (2, 0))
 CLAIMS = ((0, 1), (2, 2))
 SQUARE = ((0, 0), (1, 0))
+BARRED = ((0, 1), (1, 2))
+COLOURS, SEEN, NEVER_SEEN = (0, 0, 1), (0, 1, 0), (1, 0, 0)
+FOUR = Log(4, ((0, 1, 0),))
+SHAPE = (3, 1, 2, 0)
 
 # Each function, arguments that are right, and for each place of an argument that is judged the error that is named
 # for it, or None if the function tells False of it.
@@ -50,6 +61,21 @@ CALLS = [
     (true_lot, (W, CLAIMS), {1: errors.NoClaims}),
     (left_word, (W, CLAIMS, 0, 1), {1: errors.NoClaims, 2: errors.NoVial, 3: errors.NoVial}),
     (left_pairs, (W, CLAIMS), {1: errors.NoClaims}),
+    (needed, (W,), {}), (loads, (W, 2, 1), {1: errors.NoCut, 2: errors.NoCut}),
+    (below_by, (W, ROW), {1: errors.NoArrangement}), (depth, (W,), {}), (depth_for_all, (W,), {}),
+    (deep_claims, (W, 1), {1: errors.NoNumber}), (deep_arrangement, (W, 1), {1: errors.NoNumber}),
+    (is_deep, (W, 1, BARRED), {1: errors.NoNumber, 2: None}), (shape_in, (W,), {}),
+    (stands_at, (FOUR, SHAPE, 0, (0, 1, 2, 3)), {1: errors.NoArrangement, 2: errors.NoNumber, 3: None}),
+    (alike, (W, W), {}), (never_more, (W, W), {}), (parting, (W, W), {}), (same_alone, (W, W), {}),
+    (needless, (W,), {}), (bare, (W,), {}), (stretch, (W, 1), {1: errors.NoVial}), (apart, (W,), {}),
+    (steps_for, (W, ROW), {1: errors.NoArrangement}), (fewest_spills, (W, ROW), {1: errors.NoArrangement}),
+    (inversions, (W, ROW), {1: errors.NoArrangement}),
+    (can_be_seen, (W, COLOURS, SEEN), {1: errors.NoColours, 2: errors.NoSeen}),
+    (least_seen, (W, COLOURS, SEEN), {1: errors.NoColours, 2: errors.NoSeen}),
+    (history_seen, (W, COLOURS, SEEN), {1: errors.NoColours, 2: errors.NoSeen}),
+    (bar_seen, (W, COLOURS, SEEN), {1: errors.NoColours, 2: errors.NoSeen}),
+    (is_bar_seen, (W, COLOURS, NEVER_SEEN, (2, 2, 1, 1)), {1: errors.NoColours, 2: errors.NoSeen, 3: None}),
+    (many_seen, (W, COLOURS), {1: errors.NoColours}), (all_seen, (W, COLOURS), {1: errors.NoColours}),
 ]
 
 
@@ -125,15 +151,20 @@ def listed(right):
     return [list(right)] + deeper
 
 
+def written(arguments):
+    """What arguments are, to the last thing inside them."""
+    return repr([(part.many, part.spills) if isinstance(part, Log) else part for part in arguments])
+
+
 class AnswersTest(Case):
     def test_0_4_equal_calls_give_equal_answers_and_change_nothing(self):
         for function, right, _ in CALLS:
-            before = repr([part if part is not W else (W.many, W.spills) for part in right])
+            before = written(right)
             first = function(*right)
             again = function(*[Log(3, ((0, 1, 0), (1, 2, 1))) if part is W else part for part in right])
             self.assertEqual(first, again, function.__name__)
             self.assertIs(type(first), type(again))
-            self.assertEqual(repr([part if part is not W else (W.many, W.spills) for part in right]), before)
+            self.assertEqual(written(right), before)
 
     def test_0_4_arguments_are_passed_by_position_and_lists_are_new(self):
         for function, right, _ in CALLS:
@@ -146,16 +177,23 @@ class AnswersTest(Case):
 
     def test_0_4_the_kinds_of_the_answers(self):
         kinds = {
-            Log: (Log, behind, backward, mirrored, by_hands, without),
+            Log: (Log, behind, backward, mirrored, by_hands, without, bare, steps_for),
             tuple: (
                 hands, inverse, end, touched, sorted_back, history_for, utmost, walk, prices, prices_behind, prices_again,
-                least_arrangement, history_of, places_for, vials_for, sure, true_lot,
+                least_arrangement, history_of, places_for, vials_for, sure, true_lot, loads, deep_claims, needless, stretch,
+                fewest_spills, least_seen, history_seen,
             ),
-            list: (rows, trail, left_pairs),
-            int: (many_histories, passing, price, least_price, times_still, passed, most_true),
-            bool: (is_arrangement, is_history, can_come, is_below, is_walk, is_claims, can_be, is_bar),
+            list: (rows, trail, left_pairs, needed, apart, all_seen),
+            int: (
+                many_histories, passing, price, least_price, times_still, passed, most_true, depth, depth_for_all,
+                inversions, many_seen,
+            ),
+            bool: (
+                is_arrangement, is_history, can_come, is_below, is_walk, is_claims, can_be, is_bar, below_by, is_deep,
+                stands_at, alike, never_more, same_alone, can_be_seen, is_bar_seen,
+            ),
             str: (word, left_word),
-            type(None): (bar, least_barred),
+            type(None): (bar, least_barred, deep_arrangement, shape_in, parting, bar_seen),
         }
         asked = {function: kind for kind, functions in kinds.items() for function in functions}
         self.assertEqual(len(asked), len(CALLS))
@@ -164,6 +202,11 @@ class AnswersTest(Case):
         self.assertIs(type(led(W, lambda number, vials: vials)), tuple)
         self.assertIs(type(bar(W, ((0, 1), (1, 2)))), tuple)
         self.assertIs(type(least_barred(W, ((0, 1), (1, 2)))), tuple)
+        turned = steps_for(FOUR, SHAPE)
+        self.assertIs(type(shape_in(turned)), tuple)
+        self.assertIs(type(deep_arrangement(turned, 1)), tuple)
+        self.assertIs(type(parting(W, Log(3, ()))), tuple)
+        self.assertIs(type(bar_seen(W, COLOURS, NEVER_SEEN)), tuple)
 
     def test_0_5_numbers_of_forty_figures(self):
         for number in (10 ** 39, 10 ** 40 - 1, -10 ** 39):

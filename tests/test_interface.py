@@ -31,6 +31,21 @@ FUNCTIONS = {
         "sure": "log claims", "true_lot": "log claims", "least_barred": "log claims", "most_true": "log claims",
     },
     "ordering": {"left_word": "log claims one other", "left_pairs": "log claims"},
+    "depths": {
+        "needed": "log", "loads": "log begin end", "below_by": "log arrangement", "is_deep": "log k thing", "depth": "log",
+        "depth_for_all": "log", "deep_claims": "log k", "deep_arrangement": "log k",
+    },
+    "shapes": {"shape_in": "log", "stands_at": "log arrangement number thing"},
+    "comparing": {
+        "alike": "one_log other_log", "never_more": "one_log other_log", "same_alone": "one_log other_log",
+        "parting": "one_log other_log", "needless": "log", "bare": "log", "stretch": "log vial", "apart": "log",
+    },
+    "making": {"steps_for": "log arrangement", "fewest_spills": "log arrangement", "inversions": "log arrangement"},
+    "colours": {
+        "can_be_seen": "log colours seen", "is_bar_seen": "log colours seen thing", "least_seen": "log colours seen",
+        "history_seen": "log colours seen", "bar_seen": "log colours seen", "many_seen": "log colours",
+        "all_seen": "log colours",
+    },
 }
 
 ERRORS = {

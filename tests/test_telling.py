@@ -1,11 +1,10 @@
 """Points 5.3 and 5.4."""
 
-import itertools
 import random
 import unittest
 
 from tests.support import (
-    Case, W, all_claims, big_logs, coming, has_all, in_order, some_small_logs, sorts_home, spoiled,
+    Case, W, all_claims, all_parts, big_logs, coming, has_all, in_order, some_small_logs, sorts_home, spoiled,
 )
 from tests.test_claims import WRONG, random_claims
 from walkingcut import errors
@@ -123,10 +122,6 @@ class WordTest(Case):
         self.assertEqual(sure(long, ()), ((3, 3), (4, 4)))
         self.assertEqual(word(long, (), 2, 0), "open")
         self.assertEqual(least_barred(long, ((0, 1), (3, 4))), ((3, 4),))
-
-
-def all_parts(claims):
-    return [part for count in range(len(claims) + 1) for part in itertools.combinations(claims, count)]
 
 
 class PartsTest(Case):

@@ -1,6 +1,6 @@
 """Claims: whether they can all be true, and what bars them."""
 
-from walkingcut.cuts import cost, is_walk, prices, walk
+from walkingcut.cuts import cost, is_walk, walk_below
 from walkingcut.errors import NoClaims
 from walkingcut.kinds import are_integers, check_cuts, is_one_of
 from walkingcut.sorting import can_come, history_for
@@ -60,10 +60,16 @@ def history_of(log, claims):
     return history_for(log, least_arrangement(log, claims))
 
 
-def times_passed(claims, begin, end):
-    """How often right claims pass a walk from one cut to another one."""
+def crossing(claims, begin, end):
+    """The pair of how many right claims go rightward through two cuts, and how many leftward."""
     going = len([vial for vial, place in claims if vial < begin and place >= end])
     coming = len([vial for vial, place in claims if vial >= begin and place < end])
+    return going, coming
+
+
+def times_passed(claims, begin, end):
+    """How often right claims pass a walk from one cut to another one."""
+    going, coming = crossing(claims, begin, end)
     return max(going, begin - end + coming)
 
 
@@ -77,11 +83,8 @@ def passed(log, claims, begin, end):
 def bar(log, claims):
     """A walk that the claims pass more often than its price, or None."""
     check_claims(log, claims)
-    for begin, row in enumerate(prices(log)):
-        for end, least in enumerate(row):
-            if times_passed(claims, begin, end) > least:
-                return walk(log, begin, end)
-    return None
+    cuts = list(range(log.many + 1))
+    return walk_below(log, [[times_passed(claims, begin, end) for end in cuts] for begin in cuts])
 
 
 def is_bar(log, claims, thing):

@@ -66,3 +66,17 @@ def walk(log, begin, end):
     for known in reversed(cheapest(log, begin)):
         backward_walk.append(last_step(known, backward_walk[-1])[1])
     return tuple(reversed(backward_walk))
+
+
+def is_too_cheap(log, arrangement, thing):
+    """Whether a thing is a walk whose price is below how many pass it in a right arrangement."""
+    return is_walk(log, thing) and cost(thing) < passing(log, arrangement, thing[0], thing[-1])
+
+
+def walk_below(log, table):
+    """A walk whose price is below what a table tells for where it begins and ends, or None."""
+    for begin, row in enumerate(prices(log)):
+        for end, least in enumerate(row):
+            if table[begin][end] > least:
+                return walk(log, begin, end)
+    return None

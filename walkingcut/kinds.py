@@ -18,11 +18,21 @@ def are_integers(thing):
     return isinstance(thing, tuple) and all([is_integer(part) for part in thing])
 
 
+def are_within(thing, count, least, most):
+    """Whether a thing is a tuple of so many integers from the least to the most."""
+    return are_integers(thing) and len(thing) == count and all([least <= part <= most for part in thing])
+
+
 def is_lot(thing):
     """Whether a thing is an ascending tuple of unlike integers from 0 on."""
     if not are_integers(thing):
         return False
     return all([low < high for low, high in zip((-1,) + thing, thing)])
+
+
+def is_lot_below(thing, top):
+    """Whether a thing is a lot of integers below a top."""
+    return is_lot(thing) and all([part < top for part in thing])
 
 
 def is_cut(log, thing):

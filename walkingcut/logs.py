@@ -1,7 +1,7 @@
 """Logs of spilled stretches, and the arrangements of their racks."""
 
 from walkingcut.errors import BadLog, NoArrangement, NoLot, OtherRack
-from walkingcut.kinds import are_integers, is_lot, is_within
+from walkingcut.kinds import are_integers, is_lot, is_lot_below, is_within
 
 MOST_PLACES = 40
 MOST_SPILLS = 100
@@ -83,7 +83,7 @@ def by_hands(log, lot):
 
 def without(log, lot):
     """The log without the spills whose numbers are in a lot."""
-    if not is_lot(lot) or not all([number < len(log.spills) for number in lot]):
+    if not is_lot_below(lot, len(log.spills)):
         raise NoLot()
     return log_of(log.many, tuple([spill for number, spill in enumerate(log.spills) if number not in lot]))
 

@@ -4,12 +4,18 @@ from walkingcut.kinds import check_cuts
 from walkingcut.logs import check_arrangement, home, is_arrangement, places_of
 
 
+def put_down(arrangement, spill):
+    """What comes of an arrangement when the stretch of a spill is put in descending order."""
+    first, last, _ = spill
+    return arrangement[:first] + tuple(sorted(arrangement[first:last + 1], reverse=True)) + arrangement[last + 1:]
+
+
 def turned_down(log, arrangement):
     """What comes of an arrangement when each stretch, the first one first, is put in descending order."""
-    cells = list(arrangement)
-    for first, last, _ in log.spills:
-        cells[first:last + 1] = sorted(cells[first:last + 1], reverse=True)
-    return tuple(cells)
+    row = arrangement
+    for spill in log.spills:
+        row = put_down(row, spill)
+    return row
 
 
 def utmost(log):
