@@ -1,4 +1,4 @@
-"""The examples e01 to e11 of the document."""
+"""The examples e01 to e12 of the document."""
 
 import unittest
 
@@ -7,6 +7,7 @@ from walkingcut.colours import can_be_seen
 from walkingcut.comparing import needless, stretch
 from walkingcut.cuts import least_price, price
 from walkingcut.depths import depth, depth_for_all, needed
+from walkingcut.hands import must_hands
 from walkingcut.histories import end
 from walkingcut.logs import Log, mirrored
 from walkingcut.sorting import can_come, sorted_back
@@ -55,6 +56,9 @@ class ExamplesTest(unittest.TestCase):
 
     def test_e11(self):
         self.assertIs(can_be_seen(self.w, (0, 0, 1), (1, 0, 0)), False)
+
+    def test_e12(self):
+        self.assertEqual(must_hands(self.w, ((0, 2),)), (0, 1))
 
 
 if __name__ == "__main__":

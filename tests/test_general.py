@@ -5,13 +5,22 @@ import unittest
 from tests.support import Case, W, big_log, deep
 from walkingcut import errors
 from walkingcut.again import prices_again, prices_behind, times_still
+from walkingcut.bounds import (
+    can_be_ahead, can_be_beyond, history_ahead, history_beyond, least_ahead, least_beyond,
+)
+from walkingcut.choosing import either, many_either
 from walkingcut.claims import bar, can_be, history_of, is_bar, is_claims, least_arrangement, passed
 from walkingcut.colours import all_seen, bar_seen, can_be_seen, history_seen, is_bar_seen, least_seen, many_seen
 from walkingcut.comparing import alike, apart, bare, needless, never_more, parting, same_alone, stretch
+from walkingcut.crates import (
+    bar_crated, can_be_crated, history_crated, is_bar_crated, least_crated, many_crated,
+)
 from walkingcut.cuts import is_walk, least_price, price, prices, walk
 from walkingcut.depths import (
     below_by, deep_arrangement, deep_claims, depth, depth_for_all, is_deep, loads, needed,
 )
+from walkingcut.hands import cleared, enough_hands, fewest_mixed, least_hands, must_hands, must_spills
+from walkingcut.helping import helpers, helpers_at
 from walkingcut.histories import end, is_history, led, many_histories, rows, touched, trail
 from walkingcut.logs import Log, backward, behind, by_hands, hands, inverse, is_arrangement, mirrored, without
 from walkingcut.making import fewest_spills, inversions, steps_for
@@ -29,6 +38,9 @@ BARRED = ((0, 1), (1, 2))
 COLOURS, SEEN, NEVER_SEEN = (0, 0, 1), (0, 1, 0), (1, 0, 0)
 FOUR = Log(4, ((0, 1, 0),))
 SHAPE = (3, 1, 2, 0)
+SIZES, CRATED, NEVER_CRATED = (1, 2), ((1,), (0, 2)), ((2,), (0, 1))
+CHOICES = ((0, (0, 1)), (2, (1, 2)))
+BOUNDS = (1, 0, 0)
 
 # Each function, arguments that are right, and for each place of an argument that is judged the error that is named
 # for it, or None if the function tells False of it.
@@ -76,6 +88,21 @@ CALLS = [
     (bar_seen, (W, COLOURS, SEEN), {1: errors.NoColours, 2: errors.NoSeen}),
     (is_bar_seen, (W, COLOURS, NEVER_SEEN, (2, 2, 1, 1)), {1: errors.NoColours, 2: errors.NoSeen, 3: None}),
     (many_seen, (W, COLOURS), {1: errors.NoColours}), (all_seen, (W, COLOURS), {1: errors.NoColours}),
+    (can_be_crated, (W, SIZES, CRATED), {1: errors.NoSizes, 2: errors.NoCrated}),
+    (least_crated, (W, SIZES, CRATED), {1: errors.NoSizes, 2: errors.NoCrated}),
+    (history_crated, (W, SIZES, CRATED), {1: errors.NoSizes, 2: errors.NoCrated}),
+    (bar_crated, (W, SIZES, CRATED), {1: errors.NoSizes, 2: errors.NoCrated}),
+    (is_bar_crated, (W, SIZES, NEVER_CRATED, (2, 2, 1, 1)), {1: errors.NoSizes, 2: errors.NoCrated, 3: None}),
+    (many_crated, (W, SIZES), {1: errors.NoSizes}),
+    (either, (W, CHOICES), {1: errors.NoChoices}), (many_either, (W, CHOICES), {1: errors.NoChoices}),
+    (least_beyond, (W, BOUNDS), {1: errors.NoBounds}), (least_ahead, (W, (1, 1, 2)), {1: errors.NoBounds}),
+    (can_be_beyond, (W, BOUNDS), {1: errors.NoBounds}), (can_be_ahead, (W, (1, 1, 2)), {1: errors.NoBounds}),
+    (history_beyond, (W, BOUNDS), {1: errors.NoBounds}), (history_ahead, (W, (1, 1, 2)), {1: errors.NoBounds}),
+    (enough_hands, (W, CLAIMS, (0, 1)), {1: errors.NoClaims, 2: errors.NoLot}),
+    (must_hands, (W, CLAIMS), {1: errors.NoClaims}), (least_hands, (W, CLAIMS), {1: errors.NoClaims}),
+    (must_spills, (W, CLAIMS), {1: errors.NoClaims}), (fewest_mixed, (W, CLAIMS), {1: errors.NoClaims}),
+    (cleared, (W, CLAIMS, 1), {1: errors.NoClaims, 2: errors.NoHand}), (helpers, (W, CLAIMS), {1: errors.NoClaims}),
+    (helpers_at, (W, CLAIMS, 1), {1: errors.NoClaims, 2: errors.NoNumber}),
 ]
 
 
@@ -181,19 +208,21 @@ class AnswersTest(Case):
             tuple: (
                 hands, inverse, end, touched, sorted_back, history_for, utmost, walk, prices, prices_behind, prices_again,
                 least_arrangement, history_of, places_for, vials_for, sure, true_lot, loads, deep_claims, needless, stretch,
-                fewest_spills, least_seen, history_seen,
+                fewest_spills, least_seen, history_seen, least_crated, history_crated, either, least_beyond, least_ahead,
+                history_beyond, history_ahead, must_hands, must_spills, fewest_mixed, cleared,
             ),
-            list: (rows, trail, left_pairs, needed, apart, all_seen),
+            list: (rows, trail, left_pairs, needed, apart, all_seen, least_hands, helpers, helpers_at),
             int: (
                 many_histories, passing, price, least_price, times_still, passed, most_true, depth, depth_for_all,
-                inversions, many_seen,
+                inversions, many_seen, many_crated, many_either,
             ),
             bool: (
                 is_arrangement, is_history, can_come, is_below, is_walk, is_claims, can_be, is_bar, below_by, is_deep,
-                stands_at, alike, never_more, same_alone, can_be_seen, is_bar_seen,
+                stands_at, alike, never_more, same_alone, can_be_seen, is_bar_seen, can_be_crated, is_bar_crated,
+                can_be_beyond, can_be_ahead, enough_hands,
             ),
             str: (word, left_word),
-            type(None): (bar, least_barred, deep_arrangement, shape_in, parting, bar_seen),
+            type(None): (bar, least_barred, deep_arrangement, shape_in, parting, bar_seen, bar_crated),
         }
         asked = {function: kind for kind, functions in kinds.items() for function in functions}
         self.assertEqual(len(asked), len(CALLS))
@@ -207,6 +236,7 @@ class AnswersTest(Case):
         self.assertIs(type(deep_arrangement(turned, 1)), tuple)
         self.assertIs(type(parting(W, Log(3, ()))), tuple)
         self.assertIs(type(bar_seen(W, COLOURS, NEVER_SEEN)), tuple)
+        self.assertIs(type(bar_crated(W, SIZES, NEVER_CRATED)), tuple)
 
     def test_0_5_numbers_of_forty_figures(self):
         for number in (10 ** 39, 10 ** 40 - 1, -10 ** 39):

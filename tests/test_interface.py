@@ -46,6 +46,21 @@ FUNCTIONS = {
         "history_seen": "log colours seen", "bar_seen": "log colours seen", "many_seen": "log colours",
         "all_seen": "log colours",
     },
+    "crates": {
+        "can_be_crated": "log sizes crated", "is_bar_crated": "log sizes crated thing",
+        "least_crated": "log sizes crated", "history_crated": "log sizes crated", "bar_crated": "log sizes crated",
+        "many_crated": "log sizes",
+    },
+    "choosing": {"either": "log choices", "many_either": "log choices"},
+    "bounds": {
+        "least_beyond": "log bounds", "least_ahead": "log bounds", "history_beyond": "log bounds",
+        "history_ahead": "log bounds", "can_be_beyond": "log bounds", "can_be_ahead": "log bounds",
+    },
+    "hands": {
+        "enough_hands": "log claims lot", "must_hands": "log claims", "must_spills": "log claims",
+        "least_hands": "log claims", "fewest_mixed": "log claims", "cleared": "log claims hand",
+    },
+    "helping": {"helpers": "log claims", "helpers_at": "log claims number"},
 }
 
 ERRORS = {
