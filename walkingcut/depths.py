@@ -93,6 +93,7 @@ def deep_arrangement(log, k):
     check_number(k)
     for pair, both in needed_loads(log):
         if min(both) >= k:
+            # Here too many pass at this pair alone, and as neither load is below k, no k of the claims show it.
             return filled(log.many, rightward(pair, both[0]))
     return None
 
