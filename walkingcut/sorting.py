@@ -1,6 +1,6 @@
 """Sorting backward: it brings home just what can have come."""
 
-from walkingcut.logs import check_arrangement, home
+from walkingcut.logs import check_arrangement, home, places_of
 
 
 def unwound(log, arrangement):
@@ -32,3 +32,13 @@ def history_for(log, arrangement):
     if first_row != home(log):
         return None
     return history
+
+
+def history_between(log, start, goal):
+    """What is put back at each spill for a log to lead from one right arrangement to another one, or None."""
+    # Each vial is called by the place where it starts, and by its own name again behind that.
+    places = places_of(start)
+    history = history_for(log, tuple([places[vial] for vial in goal]))
+    if history is None:
+        return None
+    return tuple([tuple([start[place] for place in row]) for row in history])
