@@ -1,6 +1,6 @@
 """What the tests rest on: racks gone through whole by the document's words, and things of all kinds.
 
-Nothing here asks the program for an answer: only Log, its attributes and behind are used.
+Nothing here asks the program for an answer: only its classes, the attributes of Log, and behind are used.
 """
 
 import itertools
@@ -9,7 +9,10 @@ import random
 import unittest
 
 from walkingcut import errors
+from walkingcut.audits import Audit
+from walkingcut.desk import Desk
 from walkingcut.logs import Log, behind
+from walkingcut.mixings import Mixing
 
 W = Log(3, ((0, 1, 0), (1, 2, 1)))
 
@@ -239,20 +242,21 @@ def a_generator():
 def not_tuples():
     """Things that are no tuples and no integers, of all kinds."""
     return [
-        None, True, False, "", "0", "rack 3\n", b"", b"\x00\x01", bytearray(b"\x00\x01\x02"), memoryview(b"ab"),
-        [], [0], [0, 1, 2], [(0, 1, 0)], {}, {0: 1}, {"many": 3}, {(0, 1): 2}, range(3), slice(0, 2), Ellipsis,
+        None, True, False, "", "0", "rack 3\n", b"", b"\x00\x01", bytearray(b"\x00\x01\x02"), memoryview(b"ab"), [],
+        [0], [0, 1, 2], [(0, 1, 0)], {}, {0: 1}, {"many": 3}, {(0, 1): 2}, range(3), slice(0, 2), Ellipsis,
         NotImplemented, object(), object, int, tuple, len, deep, a_generator(), iter((0, 1)), zip((0,), (1,)),
-        {}.keys(), {0: 1}.items(), (lambda: 0), math, ValueError(1), KeyError("k"),
-        Log, Log(1, ()), W, errors, errors.CutError, errors.NoLot(), errors.BadLog("many"),
-        deep(30, list), deep(30, dict), [None] * 8000, list(range(8000)), dict.fromkeys(range(3000)), "x" * 5000,
+        {}.keys(), {0: 1}.items(), (lambda: 0), math, ValueError(1), KeyError("k"), Log, Log(1, ()), W,
+        Mixing(3, ((0, 1),)), Audit(W), Audit, Desk(), Desk, errors, errors.CutError, errors.NoLot(),
+        errors.BadLog("many"), deep(30, list), deep(30, dict), [None] * 8000, list(range(8000)),
+        dict.fromkeys(range(3000)), "x" * 5000,
     ]
 
 
 def odd_tuples():
     """Tuples that are right nowhere."""
     return [
-        (None,), (True,), ("0",), ((),), ([],), ({},), ([0, 1],), (range(2),), (W,), ((W,),), ((None, None),), (0, None),
-        deep(30), deep(30) + (0,), (None,) * 8000, ((0, 1, 2, 3),) * 1500, (deep(20, list),) * 300,
+        (None,), (True,), ("0",), ((),), ([],), ({},), ([0, 1],), (range(2),), (W,), ((W,),), ((None, None),),
+        (0, None), deep(30), deep(30) + (0,), (None,) * 8000, ((0, 1, 2, 3),) * 1500, (deep(20, list),) * 300,
     ]
 
 

@@ -5,7 +5,7 @@ import random
 import unittest
 
 from tests.support import (
-    Case, W, all_small_logs, all_walks, big_log, big_logs, cheapest_rows, coming, each_top, ends_with, is_a_walk, left_steps,
+    Case, W, all_small_logs, all_walks, big_log, big_logs, coming, each_top, ends_with, is_a_walk, left_steps,
     perms, small_logs, some_small_logs, sorts_home, spoiled,
 )
 from walkingcut import errors

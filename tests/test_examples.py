@@ -1,10 +1,12 @@
-"""The examples e01 to e12 of the document."""
+"""The examples e01 to e15 of the document."""
 
 import unittest
 
+from walkingcut.chances import chance
 from walkingcut.claims import can_be, is_bar
 from walkingcut.colours import can_be_seen
 from walkingcut.comparing import needless, stretch
+from walkingcut.counting import arrangement_at, many_arrangements
 from walkingcut.cuts import least_price, price
 from walkingcut.depths import depth, depth_for_all, needed
 from walkingcut.hands import must_hands
@@ -12,6 +14,7 @@ from walkingcut.histories import end
 from walkingcut.logs import Log, mirrored
 from walkingcut.sorting import can_come, sorted_back
 from walkingcut.telling import places_for, word
+from walkingcut.texts import log_text
 from walkingcut.utmosts import utmost
 
 
@@ -59,6 +62,15 @@ class ExamplesTest(unittest.TestCase):
 
     def test_e12(self):
         self.assertEqual(must_hands(self.w, ((0, 2),)), (0, 1))
+
+    def test_e13(self):
+        self.assertEqual((many_arrangements(self.w), arrangement_at(self.w, 3)), (4, (1, 2, 0)))
+
+    def test_e14(self):
+        self.assertEqual(chance(self.w, ((0, 2),)), (1, 4))
+
+    def test_e15(self):
+        self.assertEqual(log_text(self.w), "rack 3\nspill 0 1 0\nspill 1 2 1\n")
 
 
 if __name__ == "__main__":

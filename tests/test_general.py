@@ -1,119 +1,45 @@
-"""Points 0.2 to 0.5, for all functions of the interface that have landed."""
+"""Points 0.2 to 0.5, for all functions and methods of the interface."""
 
 import unittest
 
-from tests.support import Case, W, big_log, deep
+from tests.calls import CALLS, COLOURS, FOUR, HISTORY, KINDS, NEVER_CRATED, NEVER_SEEN, OF_TEXTS, SHAPE, SIZES
+from tests.support import Case, W, big_log, big_logs, deep, not_tuples, odd_tuples
+from tests.test_interface import FUNCTIONS
 from walkingcut import errors
 from walkingcut.again import prices_again, prices_behind, times_still
-from walkingcut.bounds import (
-    can_be_ahead, can_be_beyond, history_ahead, history_beyond, least_ahead, least_beyond,
-)
-from walkingcut.choosing import either, many_either
-from walkingcut.claims import bar, can_be, history_of, is_bar, is_claims, least_arrangement, passed
-from walkingcut.colours import all_seen, bar_seen, can_be_seen, history_seen, is_bar_seen, least_seen, many_seen
-from walkingcut.comparing import alike, apart, bare, needless, never_more, parting, same_alone, stretch
-from walkingcut.crates import (
-    bar_crated, can_be_crated, history_crated, is_bar_crated, least_crated, many_crated,
-)
+from walkingcut.audits import Audit
+from walkingcut.bounds import history_beyond
+from walkingcut.chances import chance
+from walkingcut.claims import bar, can_be, history_of, is_bar, least_arrangement, passed
+from walkingcut.colours import bar_seen, history_seen
+from walkingcut.comparing import bare, parting
+from walkingcut.counting import next_one
+from walkingcut.crates import bar_crated
 from walkingcut.cuts import is_walk, least_price, price, prices, walk
-from walkingcut.depths import (
-    below_by, deep_arrangement, deep_claims, depth, depth_for_all, is_deep, loads, needed,
-)
-from walkingcut.hands import cleared, enough_hands, fewest_mixed, least_hands, must_hands, must_spills
-from walkingcut.helping import helpers, helpers_at
+from walkingcut.depths import deep_arrangement, deep_claims
+from walkingcut.hands import cleared
 from walkingcut.histories import end, is_history, led, many_histories, rows, touched, trail
-from walkingcut.logs import Log, backward, behind, by_hands, hands, inverse, is_arrangement, mirrored, without
-from walkingcut.making import fewest_spills, inversions, steps_for
+from walkingcut.logs import Log, backward, behind, by_hands, hands, inverse, mirrored, without
+from walkingcut.making import steps_for
+from walkingcut.mixings import Mixing
+from walkingcut.notes import history_noted
 from walkingcut.ordering import left_pairs, left_word
-from walkingcut.shapes import shape_in, stands_at
+from walkingcut.shapes import shape_in
 from walkingcut.sorting import can_come, history_for, sorted_back
 from walkingcut.telling import least_barred, most_true, places_for, sure, true_lot, vials_for, word
+from walkingcut.texts import log_text
 from walkingcut.utmosts import is_below, passing, utmost
-
-ROW = (1, 2, 0)
-HISTORY = ((1, 0), (2, 0))
-CLAIMS = ((0, 1), (2, 2))
-SQUARE = ((0, 0), (1, 0))
-BARRED = ((0, 1), (1, 2))
-COLOURS, SEEN, NEVER_SEEN = (0, 0, 1), (0, 1, 0), (1, 0, 0)
-FOUR = Log(4, ((0, 1, 0),))
-SHAPE = (3, 1, 2, 0)
-SIZES, CRATED, NEVER_CRATED = (1, 2), ((1,), (0, 2)), ((2,), (0, 1))
-CHOICES = ((0, (0, 1)), (2, (1, 2)))
-BOUNDS = (1, 0, 0)
-
-# Each function, arguments that are right, and for each place of an argument that is judged the error that is named
-# for it, or None if the function tells False of it.
-CALLS = [
-    (Log, (3, W.spills), {0: errors.BadLog, 1: errors.BadLog}),
-    (hands, (W,), {}), (behind, (W, W), {}), (backward, (W,), {}), (mirrored, (W,), {}),
-    (by_hands, (W, (0,)), {1: errors.NoLot}), (without, (W, (0,)), {1: errors.NoLot}),
-    (is_arrangement, (W, ROW), {1: None}), (inverse, (W, ROW), {1: errors.NoArrangement}),
-    (is_history, (W, HISTORY), {1: None}), (end, (W, HISTORY), {1: errors.NoHistory}),
-    (rows, (W, HISTORY), {1: errors.NoHistory}),
-    (trail, (W, HISTORY, 0), {1: errors.NoHistory, 2: errors.NoVial}),
-    (many_histories, (W,), {}), (touched, (W, HISTORY), {}),
-    (sorted_back, (W, ROW), {1: errors.NoArrangement}), (can_come, (W, ROW), {1: errors.NoArrangement}),
-    (history_for, (W, ROW), {1: errors.NoArrangement}), (utmost, (W,), {}),
-    (passing, (W, ROW, 1, 1), {1: errors.NoArrangement, 2: errors.NoCut, 3: errors.NoCut}),
-    (is_below, (W, ROW, ROW), {1: errors.NoArrangement, 2: None}),
-    (is_walk, (W, (2, 2, 1, 1)), {1: None}), (price, (W, (2, 2, 1, 1)), {1: errors.NoWalk}),
-    (least_price, (W, 2, 1), {1: errors.NoCut, 2: errors.NoCut}),
-    (walk, (W, 2, 1), {1: errors.NoCut, 2: errors.NoCut}), (prices, (W,), {}),
-    (prices_behind, (SQUARE, SQUARE), {0: errors.NoPrices, 1: errors.NoPrices}),
-    (prices_again, (W, 2), {1: errors.NoNumber}), (times_still, (W,), {}),
-    (is_claims, (W, CLAIMS), {1: None}), (least_arrangement, (W, CLAIMS), {1: errors.NoClaims}),
-    (can_be, (W, CLAIMS), {1: errors.NoClaims}), (history_of, (W, CLAIMS), {1: errors.NoClaims}),
-    (passed, (W, CLAIMS, 1, 1), {1: errors.NoClaims, 2: errors.NoCut, 3: errors.NoCut}),
-    (bar, (W, CLAIMS), {1: errors.NoClaims}), (is_bar, (W, ((0, 1), (1, 2)), (2, 2, 1, 1)), {1: errors.NoClaims, 2: None}),
-    (word, (W, CLAIMS, 1, 0), {1: errors.NoClaims, 2: errors.NoVial, 3: errors.NoPlace}),
-    (places_for, (W, CLAIMS, 1), {1: errors.NoClaims, 2: errors.NoVial}),
-    (vials_for, (W, CLAIMS, 1), {1: errors.NoClaims, 2: errors.NoPlace}), (sure, (W, CLAIMS), {1: errors.NoClaims}),
-    (least_barred, (W, CLAIMS), {1: errors.NoClaims}), (most_true, (W, CLAIMS), {1: errors.NoClaims}),
-    (true_lot, (W, CLAIMS), {1: errors.NoClaims}),
-    (left_word, (W, CLAIMS, 0, 1), {1: errors.NoClaims, 2: errors.NoVial, 3: errors.NoVial}),
-    (left_pairs, (W, CLAIMS), {1: errors.NoClaims}),
-    (needed, (W,), {}), (loads, (W, 2, 1), {1: errors.NoCut, 2: errors.NoCut}),
-    (below_by, (W, ROW), {1: errors.NoArrangement}), (depth, (W,), {}), (depth_for_all, (W,), {}),
-    (deep_claims, (W, 1), {1: errors.NoNumber}), (deep_arrangement, (W, 1), {1: errors.NoNumber}),
-    (is_deep, (W, 1, BARRED), {1: errors.NoNumber, 2: None}), (shape_in, (W,), {}),
-    (stands_at, (FOUR, SHAPE, 0, (0, 1, 2, 3)), {1: errors.NoArrangement, 2: errors.NoNumber, 3: None}),
-    (alike, (W, W), {}), (never_more, (W, W), {}), (parting, (W, W), {}), (same_alone, (W, W), {}),
-    (needless, (W,), {}), (bare, (W,), {}), (stretch, (W, 1), {1: errors.NoVial}), (apart, (W,), {}),
-    (steps_for, (W, ROW), {1: errors.NoArrangement}), (fewest_spills, (W, ROW), {1: errors.NoArrangement}),
-    (inversions, (W, ROW), {1: errors.NoArrangement}),
-    (can_be_seen, (W, COLOURS, SEEN), {1: errors.NoColours, 2: errors.NoSeen}),
-    (least_seen, (W, COLOURS, SEEN), {1: errors.NoColours, 2: errors.NoSeen}),
-    (history_seen, (W, COLOURS, SEEN), {1: errors.NoColours, 2: errors.NoSeen}),
-    (bar_seen, (W, COLOURS, SEEN), {1: errors.NoColours, 2: errors.NoSeen}),
-    (is_bar_seen, (W, COLOURS, NEVER_SEEN, (2, 2, 1, 1)), {1: errors.NoColours, 2: errors.NoSeen, 3: None}),
-    (many_seen, (W, COLOURS), {1: errors.NoColours}), (all_seen, (W, COLOURS), {1: errors.NoColours}),
-    (can_be_crated, (W, SIZES, CRATED), {1: errors.NoSizes, 2: errors.NoCrated}),
-    (least_crated, (W, SIZES, CRATED), {1: errors.NoSizes, 2: errors.NoCrated}),
-    (history_crated, (W, SIZES, CRATED), {1: errors.NoSizes, 2: errors.NoCrated}),
-    (bar_crated, (W, SIZES, CRATED), {1: errors.NoSizes, 2: errors.NoCrated}),
-    (is_bar_crated, (W, SIZES, NEVER_CRATED, (2, 2, 1, 1)), {1: errors.NoSizes, 2: errors.NoCrated, 3: None}),
-    (many_crated, (W, SIZES), {1: errors.NoSizes}),
-    (either, (W, CHOICES), {1: errors.NoChoices}), (many_either, (W, CHOICES), {1: errors.NoChoices}),
-    (least_beyond, (W, BOUNDS), {1: errors.NoBounds}), (least_ahead, (W, (1, 1, 2)), {1: errors.NoBounds}),
-    (can_be_beyond, (W, BOUNDS), {1: errors.NoBounds}), (can_be_ahead, (W, (1, 1, 2)), {1: errors.NoBounds}),
-    (history_beyond, (W, BOUNDS), {1: errors.NoBounds}), (history_ahead, (W, (1, 1, 2)), {1: errors.NoBounds}),
-    (enough_hands, (W, CLAIMS, (0, 1)), {1: errors.NoClaims, 2: errors.NoLot}),
-    (must_hands, (W, CLAIMS), {1: errors.NoClaims}), (least_hands, (W, CLAIMS), {1: errors.NoClaims}),
-    (must_spills, (W, CLAIMS), {1: errors.NoClaims}), (fewest_mixed, (W, CLAIMS), {1: errors.NoClaims}),
-    (cleared, (W, CLAIMS, 1), {1: errors.NoClaims, 2: errors.NoHand}), (helpers, (W, CLAIMS), {1: errors.NoClaims}),
-    (helpers_at, (W, CLAIMS, 1), {1: errors.NoClaims, 2: errors.NoNumber}),
-]
+from walkingcut.witnesses import filling
 
 
 def largest_things():
     """Things nested as deep, and with as many objects, as they may be, and right nowhere."""
     return [
         deep(40), deep(40, list), deep(40, dict), deep(41), (deep(39),), (deep(38), 0), ((0, deep(38)),),
-        ((0, 1), deep(39)), (deep(39), (2, 0)), (W, deep(39)),
-        (None,) * 9999, ((),) * 9999, (W,) * 9999, (True,) * 9999, (-1,) * 9999, ([],) * 9999, "x" * 10000, b"x" * 10000,
-        [0] * 9999, list(range(9999)), dict.fromkeys(range(4999), 0), ((0, 0),) * 3333, ((0, 1, 0),) * 2499,
-        tuple(range(9999))[::-1], tuple((k, k) for k in range(1, 3333)), (0, 1, 2) * 3333, ((0, 0, 0),) * 2499,
+        ((0, 1), deep(39)), (deep(39), (2, 0)), (W, deep(39)), (None,) * 9999, ((),) * 9999, (W,) * 9999,
+        (True,) * 9999, (-1,) * 9999, ([],) * 9999, "x" * 10000, b"x" * 10000, [0] * 9999, list(range(9999)),
+        dict.fromkeys(range(4999), 0), ((0, 0),) * 3333, ((0, 1, 0),) * 2499, tuple(range(9999))[::-1],
+        tuple((k, k) for k in range(1, 3333)), (0, 1, 2) * 3333, ((0, 0, 0),) * 2499,
     ]
 
 
@@ -133,6 +59,17 @@ class JudgedThingsTest(Case):
                     if error is None:
                         self.judges(False, function, *given)
                     else:
+                        self.refuses(error, function, *given)
+
+    def test_0_3_things_of_all_kinds(self):
+        things = not_tuples() + odd_tuples() + [-1, 1 - 10 ** 40]
+        for function, right, judged in CALLS:
+            for at, error in judged.items():
+                for thing in things:
+                    given = right[:at] + (thing,) + right[at + 1:]
+                    if error is None:
+                        self.judges(False, function, *given)
+                    elif function not in OF_TEXTS or not isinstance(thing, str):
                         self.refuses(error, function, *given)
 
     def test_0_2_a_flag_is_no_integer(self):
@@ -180,7 +117,14 @@ def listed(right):
 
 def written(arguments):
     """What arguments are, to the last thing inside them."""
-    return repr([(part.many, part.spills) if isinstance(part, Log) else part for part in arguments])
+    return repr([vars(part) if isinstance(part, (Log, Mixing)) else part for part in arguments])
+
+
+def made_apart(part):
+    """A log or a mixing that is equal, but constructed again; what else it is itself."""
+    if isinstance(part, Log):
+        return Log(part.many, tuple(list(part.spills)))
+    return Mixing(part.many, tuple(list(part.lots))) if isinstance(part, Mixing) else part
 
 
 class AnswersTest(Case):
@@ -188,10 +132,37 @@ class AnswersTest(Case):
         for function, right, _ in CALLS:
             before = written(right)
             first = function(*right)
-            again = function(*[Log(3, ((0, 1, 0), (1, 2, 1))) if part is W else part for part in right])
+            again = function(*[made_apart(part) for part in right])
             self.assertEqual(first, again, function.__name__)
             self.assertIs(type(first), type(again))
             self.assertEqual(written(right), before)
+
+    def test_0_4_the_calls_are_of_all_functions(self):
+        called = {function.__name__ for function, _, _ in CALLS} | {"led"}
+        for file, functions in FUNCTIONS.items():
+            self.assertLessEqual(set(functions), called, file)
+
+    def test_0_4_free_results_for_equal_logs_are_equal(self):
+        claims = tuple((vial, 39 - vial) for vial in range(8))
+        halves = tuple(range(20, 40)), tuple(range(20))
+        asked = [
+            lambda log: walk(log, 20, 20), lambda log: history_for(log, utmost(log)),
+            lambda log: history_of(log, claims[:1]), lambda log: bar(log, claims), lambda log: true_lot(log, claims),
+            lambda log: deep_claims(log, 1), lambda log: deep_arrangement(log, 1),
+            lambda log: parting(log, Log(40, ())), lambda log: steps_for(log, utmost(log)),
+            lambda log: filling(log, log, utmost(log), tuple(range(40))),
+            lambda log: history_noted(log, ((0, tuple(range(40))),)),
+            lambda log: history_seen(log, (0, 1) * 20, (1, 0) * 20), lambda log: bar_crated(log, (20, 20), halves),
+            lambda log: cleared(log, claims[:1], 3), lambda log: history_beyond(log, (1,) * 40),
+            lambda log: next_one(log, tuple(range(40))), lambda log: chance(log, claims[:2]),
+            lambda log: log_text(bare(log)), lambda log: Audit(log).try_claim(0, 39),
+        ]
+        for log in big_logs()[:3] + big_logs()[5:]:
+            again = made_apart(log)
+            for ask in asked:
+                self.assertEqual(ask(log), ask(again))
+                self.assertEqual(ask(log), ask(log))
+            self.assertEqual(log, again)
 
     def test_0_4_arguments_are_passed_by_position_and_lists_are_new(self):
         for function, right, _ in CALLS:
@@ -203,28 +174,7 @@ class AnswersTest(Case):
                 self.assertEqual(function(*right), kept)
 
     def test_0_4_the_kinds_of_the_answers(self):
-        kinds = {
-            Log: (Log, behind, backward, mirrored, by_hands, without, bare, steps_for),
-            tuple: (
-                hands, inverse, end, touched, sorted_back, history_for, utmost, walk, prices, prices_behind, prices_again,
-                least_arrangement, history_of, places_for, vials_for, sure, true_lot, loads, deep_claims, needless, stretch,
-                fewest_spills, least_seen, history_seen, least_crated, history_crated, either, least_beyond, least_ahead,
-                history_beyond, history_ahead, must_hands, must_spills, fewest_mixed, cleared,
-            ),
-            list: (rows, trail, left_pairs, needed, apart, all_seen, least_hands, helpers, helpers_at),
-            int: (
-                many_histories, passing, price, least_price, times_still, passed, most_true, depth, depth_for_all,
-                inversions, many_seen, many_crated, many_either,
-            ),
-            bool: (
-                is_arrangement, is_history, can_come, is_below, is_walk, is_claims, can_be, is_bar, below_by, is_deep,
-                stands_at, alike, never_more, same_alone, can_be_seen, is_bar_seen, can_be_crated, is_bar_crated,
-                can_be_beyond, can_be_ahead, enough_hands,
-            ),
-            str: (word, left_word),
-            type(None): (bar, least_barred, deep_arrangement, shape_in, parting, bar_seen, bar_crated),
-        }
-        asked = {function: kind for kind, functions in kinds.items() for function in functions}
+        asked = {function: kind for kind, functions in KINDS.items() for function in functions}
         self.assertEqual(len(asked), len(CALLS))
         for function, right, _ in CALLS:
             self.assertIs(type(function(*right)), asked[function], function.__name__)

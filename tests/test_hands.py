@@ -6,7 +6,7 @@ import unittest
 
 from tests.support import (
     Case, W, all_claims, all_histories, big_log, big_logs, coming, ends_with, has_all, in_order, number_touched,
-    small_logs, sorts_home, spoiled,
+    small_logs, spoiled,
 )
 from tests.test_claims import WRONG, random_claims
 from walkingcut import errors

@@ -23,8 +23,9 @@ FUNCTIONS = {
     },
     "again": {"prices_behind": "one other", "prices_again": "log times", "times_still": "log"},
     "claims": {
-        "is_claims": "log thing", "can_be": "log claims", "is_bar": "log claims thing", "least_arrangement": "log claims",
-        "history_of": "log claims", "bar": "log claims", "passed": "log claims begin end",
+        "is_claims": "log thing", "can_be": "log claims", "is_bar": "log claims thing",
+        "least_arrangement": "log claims", "history_of": "log claims", "bar": "log claims",
+        "passed": "log claims begin end",
     },
     "telling": {
         "word": "log claims vial place", "places_for": "log claims vial", "vials_for": "log claims place",
@@ -32,8 +33,8 @@ FUNCTIONS = {
     },
     "ordering": {"left_word": "log claims one other", "left_pairs": "log claims"},
     "depths": {
-        "needed": "log", "loads": "log begin end", "below_by": "log arrangement", "is_deep": "log k thing", "depth": "log",
-        "depth_for_all": "log", "deep_claims": "log k", "deep_arrangement": "log k",
+        "needed": "log", "loads": "log begin end", "below_by": "log arrangement", "is_deep": "log k thing",
+        "depth": "log", "depth_for_all": "log", "deep_claims": "log k", "deep_arrangement": "log k",
     },
     "shapes": {"shape_in": "log", "stands_at": "log arrangement number thing"},
     "comparing": {
@@ -61,6 +62,40 @@ FUNCTIONS = {
         "least_hands": "log claims", "fewest_mixed": "log claims", "cleared": "log claims hand",
     },
     "helping": {"helpers": "log claims", "helpers_at": "log claims number"},
+    "witnesses": {
+        "agree": "one_log other_log one other", "filling": "one_log other_log one other",
+        "agreeing": "one_log other_log", "fillings": "log arrangement",
+    },
+    "notes": {
+        "are_right": "log notes", "history_noted": "log notes", "first_wrong": "log notes",
+        "noted_places": "log notes vial",
+    },
+    "looking": {"looks": "log", "look_tree": "log", "sure_lot": "log", "is_look_tree": "log thing"},
+    "counting": {
+        "many_arrangements": "log", "arrangement_number": "log arrangement", "many_with": "log claims",
+        "arrangement_at": "log number", "all_arrangements": "log", "next_one": "log arrangement",
+    },
+    "chances": {"many_ways": "log arrangement", "chance": "log claims", "chances": "log vial", "likeliest": "log"},
+    "mixings": {"as_mixing": "log"},
+    "among": {
+        "most_among": "mixing vials places", "ways_among": "mixing vials places", "bar_among": "mixing vials places",
+        "is_bar_among": "mixing vials places thing",
+    },
+    "texts": {"log_text": "log", "claims_text": "log claims", "history_text": "log history"},
+    "reading": {"read_log": "text", "read_claims": "log text", "read_history": "log text"},
+}
+
+CLASSES = {
+    "logs": {"Log": {"__init__": "many spills", "__eq__": "other"}},
+    "mixings": {"Mixing": {"__init__": "many lots", "__eq__": "other"}},
+    "audits": {
+        "Audit": {
+            "__init__": "log", "claim": "vial place", "drop": "vial", "spill": "first last hand", "log": "",
+            "claims": "", "places": "vial", "vials": "place", "sure": "", "try_claim": "vial place", "back": "",
+            "depth": "", "copy": "", "trying": "action",
+        },
+    },
+    "desk": {"Desk": {"__init__": "", "tell": "line", "undoable": ""}},
 }
 
 ERRORS = {
@@ -101,10 +136,19 @@ class InterfaceTest(unittest.TestCase):
                 self.assertIn(name, found, file)
                 self.assertEqual(arguments(found[name]), listed, f"{file}.{name}")
 
-    def test_log(self):
-        found = defined("logs", ast.ClassDef)
-        self.assertEqual(arguments(method(found["Log"], "__init__")), "self many spills")
-        self.assertEqual(arguments(method(found["Log"], "__eq__")), "self other")
+    def test_classes(self):
+        for file, classes in CLASSES.items():
+            found = defined(file, ast.ClassDef)
+            for name, methods in classes.items():
+                self.assertIn(name, found, file)
+                for listed_method, listed in methods.items():
+                    self.assertIsNotNone(method(found[name], listed_method), f"{name}.{listed_method}")
+                    told = f"self {listed}".strip()
+                    self.assertEqual(arguments(method(found[name], listed_method)), told, f"{name}.{listed_method}")
+
+    def test_all_files(self):
+        names = {path.stem for path in FOLDER.glob("*.py")}
+        self.assertEqual(names, {*FUNCTIONS, *CLASSES, "errors", "kinds", "__init__"})
 
     def test_errors(self):
         found = defined("errors", ast.ClassDef)
