@@ -3,7 +3,7 @@
 from walkingcut.errors import NoPlaces, NoVials
 from walkingcut.kinds import are_integers, is_lot_below, is_within
 
-# Each stay has two sides, so that it can be asked of it alone whether it is stayed: one comes to it, and goes from it.
+# Each stay has two sides, one that is come to and one that is gone from: only one way leads from the one to the other.
 COMING = 0
 GOING = 1
 
@@ -42,9 +42,7 @@ def bar_among(mixing, vials, places):
     """As many stays, such that each way from a vial's first place to one of the places has one of them."""
     came = reached(mixing, vials, ways_among(mixing, vials, places))
     # What is come to, but not gone from, parts all that is reached from all that is not.
-    return tuple(sorted([
-        (number, place) for number, place, side in came if side == COMING and (number, place, GOING) not in came
-    ]))
+    return tuple(sorted([(number, place) for number, place, _ in came if (number, place, GOING) not in came]))
 
 
 def reached(mixing, vials, ways):
@@ -94,11 +92,10 @@ def way_through(mixing, vials, places, ways):
 def with_one_more(mixing, ways, sides):
     """The ways, of which some give way, and one more, that came by the told sides."""
     onward = {(number, way[number]): way[number + 1] for way in ways for number in range(len(mixing.lots))}
-    for (number, place, kind), (further_number, further_place, _) in zip(sides, sides[1:]):
+    # What is told of stays that are left altogether may stand: no way comes to them any more.
+    for (number, place, _), (further_number, further_place, _) in zip(sides, sides[1:]):
         if further_number > number:
             onward[number, place] = further_place
-        elif further_number < number:
-            del onward[further_number, further_place]
     starts = [way[0] for way in ways] + [sides[0][1]]
     return [way_from(mixing, onward, start) for start in starts]
 

@@ -32,12 +32,12 @@ def left_out(places, place):
 def least_tree(log):
     """The least number of looks that are enough whatever is seen, and a tree with which so many are."""
     check_few_places(log, MOST_PLACES_FOR_TREES)
-    rows = all_arrangements(log)
+    rows, places = all_arrangements(log), list(range(log.many))
     most = 0
-    tree = tree_within(rows, list(range(log.many)), most)
+    tree = tree_within(rows, places, most)
     while tree is None:
         most += 1
-        tree = tree_within(rows, list(range(log.many)), most)
+        tree = tree_within(rows, places, most)
     return most, tree
 
 
